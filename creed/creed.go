@@ -1,0 +1,103 @@
+// Package creed: terms with operators that change, read, written, and solved: see DOC.md.
+package creed
+
+import (
+	"sync"
+
+	"creed/api"
+	"creed/operators"
+	"creed/reading"
+)
+
+// Session has operators and clauses.
+type Session struct {
+	mu   sync.Mutex
+	self *Session // set by New alone, so that a copy isn't taken for what New made
+	ops  *operators.Table
+}
+
+// New makes a Session (P3).
+func New() *Session {
+	s := &Session{ops: operators.New()}
+	s.self = s
+	return s
+}
+
+func (s *Session) made() bool { return s != nil && s.self == s }
+
+// Op turns an operator (P4).
+func (s *Session) Op(priority int, kind string, name string) api.Errno {
+	if !s.made() {
+		return api.ErrClosed
+	}
+	s.mu.Lock()
+	defer s.mu.Unlock()
+	return s.ops.Set(priority, kind, name)
+}
+
+// Ops tells the operators (P5).
+func (s *Session) Ops() []api.Op {
+	if !s.made() {
+		return nil
+	}
+	s.mu.Lock()
+	defer s.mu.Unlock()
+	return s.ops.All()
+}
+
+// Read reads a text's first term (P7).
+func (s *Session) Read(text string) (api.Term, int, api.Errno, int) {
+	if !s.made() {
+		return api.Term{}, 0, api.ErrClosed, 0
+	}
+	s.mu.Lock()
+	defer s.mu.Unlock()
+	return s.read(text)
+}
+
+// read catches the fault with which the reader gives up. Any other panic is none of the reader's, and goes on.
+func (s *Session) read(text string) (t api.Term, end int, e api.Errno, place int) {
+	defer func() {
+		switch fault := recover().(type) {
+		case nil:
+		case reading.Fault:
+			e, place = fault.Errno, fault.Place
+		default:
+			panic(fault)
+		}
+	}()
+	t, end = reading.Term(text, s.ops)
+	return t, end, api.OK, 0
+}
+
+// Write writes a term by the operators (P6).
+func (s *Session) Write(t api.Term) (string, api.Errno) {
+	if !s.made() {
+		return "", api.ErrClosed
+	}
+	return "", api.OK
+}
+
+// Canonical writes a term without operators (P6).
+func (s *Session) Canonical(t api.Term) (string, api.Errno) {
+	if !s.made() {
+		return "", api.ErrClosed
+	}
+	return "", api.OK
+}
+
+// Load takes clauses in (P9).
+func (s *Session) Load(text string) (int, api.Errno, int) {
+	if !s.made() {
+		return 0, api.ErrClosed, 0
+	}
+	return 0, api.OK, 0
+}
+
+// Solve looks for answers (P10).
+func (s *Session) Solve(goal string, fuel int, most int) (api.Tale, api.Errno) {
+	if !s.made() {
+		return api.Tale{}, api.ErrClosed
+	}
+	return api.Tale{}, api.OK
+}
