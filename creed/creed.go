@@ -7,6 +7,8 @@ import (
 	"creed/api"
 	"creed/operators"
 	"creed/reading"
+	"creed/terms"
+	"creed/writing"
 )
 
 // Session has operators and clauses.
@@ -75,7 +77,12 @@ func (s *Session) Write(t api.Term) (string, api.Errno) {
 	if !s.made() {
 		return "", api.ErrClosed
 	}
-	return "", api.OK
+	s.mu.Lock()
+	defer s.mu.Unlock()
+	if !terms.Proper(t) {
+		return "", api.ErrTerm
+	}
+	return writing.Text(t, s.ops, api.MaxPriority), api.OK
 }
 
 // Canonical writes a term without operators (P6).
@@ -83,7 +90,12 @@ func (s *Session) Canonical(t api.Term) (string, api.Errno) {
 	if !s.made() {
 		return "", api.ErrClosed
 	}
-	return "", api.OK
+	s.mu.Lock()
+	defer s.mu.Unlock()
+	if !terms.Proper(t) {
+		return "", api.ErrTerm
+	}
+	return writing.Canonical(t), api.OK
 }
 
 // Load takes clauses in (P9).

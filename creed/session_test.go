@@ -128,6 +128,9 @@ func TestP2Apart(t *testing.T) {
 	if _, _, e, at := two.Read("a and b."); e != api.ErrText || at != 2 {
 		t.Errorf("the other Session's Read: %d, %d", e, at)
 	}
+	if text, e := two.Write(of("and", atom("a"), atom("b"))); text != "and(a,b)" || e != api.OK {
+		t.Errorf("the other Session's Write: %s, %d", text, e)
+	}
 }
 
 // TestManyGoroutines: each call is one step for all others.
@@ -146,6 +149,13 @@ func TestManyGoroutines(t *testing.T) {
 				u, to, e, at := s.Read("a then b.")
 				if !(shown(u) == "'then'('a','b')" && to == 9 && e == api.OK || e == api.ErrText && at == 2) {
 					faults <- fmt.Sprint("Read: ", u, to, e, at)
+				}
+				then := of("then", atom("a"), atom("b"))
+				if text, e := s.Write(then); text != "a then b" && text != "then(a,b)" || e != api.OK {
+					faults <- fmt.Sprint("Write: ", text, e)
+				}
+				if text, e := s.Canonical(then); text != "then(a,b)" || e != api.OK {
+					faults <- fmt.Sprint("Canonical: ", text, e)
 				}
 			}
 		})

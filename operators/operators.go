@@ -7,8 +7,11 @@ import (
 	"strings"
 
 	"creed/api"
-	"creed/signs"
+	"creed/terms"
 )
+
+// ArgumentMost is one below the comma's priority: it parts arguments, and elements.
+const ArgumentMost = 999
 
 // Kind is an operator's type.
 type Kind uint8
@@ -161,5 +164,5 @@ func mayBeTurned(name string) bool {
 	case "", ",", "|", "[]", "{}":
 		return false
 	}
-	return len(name) <= api.MaxName && signs.FirstStranger(name) < 0
+	return terms.IsName(name)
 }

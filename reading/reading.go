@@ -135,7 +135,7 @@ func (r *reader) list() api.Term {
 	elements := r.elements()
 	list := atom("[]")
 	if r.took("|") {
-		list = r.term(argumentMost)
+		list = r.term(operators.ArgumentMost)
 	}
 	r.take("]")
 	for i := len(elements) - 1; i >= 0; i-- {
@@ -144,13 +144,10 @@ func (r *reader) list() api.Term {
 	return list
 }
 
-// argumentMost is one below the comma's priority: it parts arguments, and elements.
-const argumentMost = 999
-
 func (r *reader) elements() []api.Term {
-	elements := []api.Term{r.term(argumentMost)}
+	elements := []api.Term{r.term(operators.ArgumentMost)}
 	for r.took(",") {
-		elements = append(elements, r.term(argumentMost))
+		elements = append(elements, r.term(operators.ArgumentMost))
 	}
 	return elements
 }

@@ -63,6 +63,18 @@ func Next(text string, from int) Token {
 	}
 }
 
+// IsWord tells whether a name is a word as it is, without quotes. A `.` by itself is none, since it may be the END.
+func IsWord(name string) bool { return isWhole(name, Word) }
+
+// IsVariable tells whether a name is a variable's.
+func IsVariable(name string) bool { return isWhole(name, Variable) }
+
+// isWhole tells whether a text is one token of that kind and nothing else, nor quoted.
+func isWhole(text string, kind Kind) bool {
+	t := Next(text, 0)
+	return t.Kind == kind && !t.Quoted && t.Place == 0 && t.End == len(text)
+}
+
 // skipBlanks tells where the blanks that stand at place end.
 func skipBlanks(text string, place int) int {
 	comment := false

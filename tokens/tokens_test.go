@@ -35,3 +35,20 @@ func TestNext(t *testing.T) {
 		}
 	}
 }
+
+func TestWhole(t *testing.T) {
+	for _, c := range []struct {
+		name           string
+		word, variable bool
+	}{
+		{"a", true, false}, {"aB_1", true, false}, {"=..", true, false}, {"..", true, false}, {"!", true, false}, {";", true, false},
+		{"X", false, true}, {"_", false, true}, {"_a1", false, true},
+		{"", false, false}, {".", false, false}, {"'a'", false, false}, {"'X'", false, false}, {"'", false, false}, {"1", false, false}, {"[]", false, false}, {",", false, false}, {"|", false, false}, {"%", false, false},
+		{" a", false, false}, {"a ", false, false}, {"a%", false, false}, {"%\na", false, false}, {"a b", false, false}, {"a-", false, false}, {"!!", false, false}, {" X", false, false}, {"X ", false, false}, {"X(", false, false}, {"%\nX", false, false},
+		{"a12345678901234567890123456789012345678901", false, false}, {"X12345678901234567890123456789012345678901", false, false},
+	} {
+		if word, variable := IsWord(c.name), IsVariable(c.name); word != c.word || variable != c.variable {
+			t.Errorf("%q: a word %v, a variable %v", c.name, word, variable)
+		}
+	}
+}
