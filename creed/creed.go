@@ -5,18 +5,24 @@ import (
 	"sync"
 
 	"creed/api"
+	"creed/clauses"
 	"creed/operators"
 	"creed/reading"
+	"creed/searching"
 	"creed/terms"
 	"creed/writing"
 )
 
 // Session has operators and clauses.
 type Session struct {
-	mu   sync.Mutex
-	self *Session // set by New alone, so that a copy isn't taken for what New made
-	ops  *operators.Table
+	mu      sync.Mutex
+	self    *Session // set by New alone, so that a copy isn't taken for what New made
+	ops     *operators.Table
+	clauses []clauses.Clause
 }
+
+// mostAnswers is how many answers Solve can be asked for.
+const mostAnswers = 100
 
 // New makes a Session (P3).
 func New() *Session {
@@ -54,11 +60,12 @@ func (s *Session) Read(text string) (api.Term, int, api.Errno, int) {
 	}
 	s.mu.Lock()
 	defer s.mu.Unlock()
-	return s.read(text)
+	found, e, place := s.read(text, 0)
+	return found.Term, found.End, e, place
 }
 
 // read catches the fault with which the reader gives up. Any other panic is none of the reader's, and goes on.
-func (s *Session) read(text string) (t api.Term, end int, e api.Errno, place int) {
+func (s *Session) read(text string, from int) (found reading.Found, e api.Errno, place int) {
 	defer func() {
 		switch fault := recover().(type) {
 		case nil:
@@ -68,8 +75,7 @@ func (s *Session) read(text string) (t api.Term, end int, e api.Errno, place int
 			panic(fault)
 		}
 	}()
-	t, end = reading.Term(text, s.ops)
-	return t, end, api.OK, 0
+	return reading.Next(text, from, s.ops), api.OK, 0
 }
 
 // Write writes a term by the operators (P6).
@@ -103,7 +109,37 @@ func (s *Session) Load(text string) (int, api.Errno, int) {
 	if !s.made() {
 		return 0, api.ErrClosed, 0
 	}
-	return 0, api.OK, 0
+	s.mu.Lock()
+	defer s.mu.Unlock()
+	taken, from := 0, 0
+	for {
+		found, e, place := s.read(text, from)
+		switch e {
+		case api.OK:
+		case api.ErrEnd:
+			return taken, api.OK, 0
+		default:
+			return taken, e, place
+		}
+		if e := s.takeIn(found.Term); e != api.OK {
+			return taken, e, found.Begin
+		}
+		taken++
+		from = found.End
+	}
+}
+
+// takeIn takes one clause in.
+func (s *Session) takeIn(t api.Term) api.Errno {
+	c, ok := clauses.Of(t)
+	if !ok {
+		return api.ErrGoal
+	}
+	if len(s.clauses) == api.MaxClauses {
+		return api.ErrMany
+	}
+	s.clauses = append(s.clauses, c)
+	return api.OK
 }
 
 // Solve looks for answers (P10).
@@ -111,5 +147,14 @@ func (s *Session) Solve(goal string, fuel int, most int) (api.Tale, api.Errno) {
 	if !s.made() {
 		return api.Tale{}, api.ErrClosed
 	}
-	return api.Tale{}, api.OK
+	s.mu.Lock()
+	defer s.mu.Unlock()
+	if fuel < 0 || fuel > api.MaxFuel || most < 0 || most > mostAnswers {
+		return api.Tale{}, api.ErrArg
+	}
+	found, e, _ := s.read(goal, 0)
+	if e != api.OK {
+		return api.Tale{}, e
+	}
+	return searching.Solve(found.Term, s.clauses, s.ops, fuel, most)
 }

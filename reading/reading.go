@@ -25,15 +25,22 @@ type reader struct {
 	open  int          // how many terms have begun and not ended
 }
 
-// Term reads a text's first term, and tells the place behind its END. It panics with a Fault, if there is none.
-func Term(text string, ops *operators.Table) (api.Term, int) {
+// Found is a term that was read, and where in the text it begins and ends, its END with it.
+type Found struct {
+	Term  api.Term
+	Begin int
+	End   int
+}
+
+// Next reads a text's first term that begins at from or, behind blanks, after it. It panics with a Fault, if there is none.
+func Next(text string, from int, ops *operators.Table) Found {
 	if len(text) > api.MaxText {
 		giveUp(api.ErrLong, 0)
 	}
 	if stranger := signs.FirstStranger(text); stranger >= 0 {
 		giveUp(api.ErrByte, stranger)
 	}
-	r := &reader{text: text, ops: ops, token: tokens.Next(text, 0)}
+	r := &reader{text: text, ops: ops, token: tokens.Next(text, from)}
 	begin := r.token.Place
 	if r.token.Kind == tokens.Nothing {
 		giveUp(api.ErrEnd, begin)
@@ -45,7 +52,7 @@ func Term(text string, ops *operators.Table) (api.Term, int) {
 	if depth(t) > api.MaxDepth {
 		giveUp(api.ErrDeep, begin)
 	}
-	return t, r.token.End
+	return Found{Term: t, Begin: begin, End: r.token.End}
 }
 
 // refuse gives up at the token that comes. That it is no token counts ahead of that it can't stand there.
